@@ -15,7 +15,7 @@ type reader struct {
 	reading.Text
 	lim   api.Limits
 	atoms []api.Atom
-	stack []holder
+	stack []item.Holder
 }
 
 // Decode reads one item; beside an error stands the fault's place.
@@ -38,12 +38,12 @@ func (r *reader) whole() {
 	r.item()
 	for len(r.stack) > 0 {
 		top := r.stack[len(r.stack)-1]
-		if top.left > 0 {
+		if !top.Full() {
 			r.item()
 			continue
 		}
 		r.stack = r.stack[:len(r.stack)-1]
-		r.ended(top.at)
+		r.ended(top.At())
 	}
 	if !r.Ended() {
 		r.Next()
@@ -67,12 +67,12 @@ func (r *reader) item() {
 	if atom.Kind == api.CText && !utf8.ValidString(atom.Text) {
 		reading.Fail(api.ErrForm, at)
 	}
-	if holds(atom.Kind) && len(r.stack) >= r.lim.Depth {
+	if item.Holds(atom.Kind) && len(r.stack) >= r.lim.Depth {
 		reading.Fail(api.ErrLimit, at)
 	}
 	r.atoms = append(r.atoms, atom)
-	if holds(atom.Kind) {
-		r.stack = append(r.stack, newHolder(at, atom.Kind, argument))
+	if item.Holds(atom.Kind) {
+		r.stack = append(r.stack, item.Hold(at, atom.Kind, argument))
 		return
 	}
 	r.ended(at)
@@ -104,9 +104,9 @@ func (r *reader) ended(at int) {
 		return
 	}
 	top := &r.stack[len(r.stack)-1]
-	if !top.wantsKey() {
-		top.other()
-	} else if !top.key(r.Part(at, r.Place())) {
+	if !top.WantsKey() {
+		top.Other()
+	} else if !top.Key(r.Part(at, r.Place())) {
 		reading.Fail(api.ErrForm, at)
 	}
 }
