@@ -113,7 +113,7 @@ func TestEncodeFaults(t *testing.T) {
 		{deep(32, num(4, 1)), api.OK}, {deep(33, num(4, 1)), api.ErrLimit}, {deep(32, num(6, 9)), api.OK}, {deep(33, num(6, 9)), api.ErrLimit}, {deep(32, num(5, 1)), api.OK}, {deep(33, num(5, 1)), api.ErrLimit}, {append(deep(33, num(4, 1)), num(0, 0)), api.ErrForm}, {deep(4095, num(6, 1)), api.ErrLimit}, {append(deep(31, num(4, 1))[:31], num(4, 0)), api.OK}, {append(deep(32, num(4, 1))[:32], num(4, 0)), api.ErrLimit},
 		{append(deep(40, num(6, 1))[:40], num(5, 2), num(0, 1), num(0, 0), num(0, 0), num(0, 0)), api.ErrLimit},
 		{wide(4095), api.OK}, {wide(4096), api.ErrLimit}, {append(wide(4096), num(9, 0)), api.ErrLimit}, {append(deep(4094, num(6, 1))[:4094], text(3, long(250000))), api.ErrLimit},
-		{atoms(text(2, long(262139))), api.OK}, {atoms(text(2, long(262140))), api.ErrLimit}, {atoms(text(3, long(1<<20))), api.ErrLimit}, {atoms(num(4, 2), text(2, long(300000)), num(9, 9)), api.ErrForm}, {atoms(num(5, 2), text(2, "b"), text(2, long(262200)), text(2, "a"), num(0, 0)), api.ErrLimit},
+		{atoms(text(2, long(262139))), api.OK}, {atoms(text(2, long(262140))), api.ErrLimit}, {atoms(num(4, 2), text(2, long(262137)), num(0, 0)), api.OK}, {atoms(num(4, 2), text(2, long(262138)), num(0, 0)), api.ErrLimit}, {atoms(num(4, 2), text(2, long(262138)), text(2, "")), api.ErrLimit}, {atoms(text(3, long(1<<20))), api.ErrLimit}, {atoms(num(4, 2), text(2, long(300000)), num(9, 9)), api.ErrForm}, {atoms(num(5, 2), text(2, "b"), text(2, long(262200)), text(2, "a"), num(0, 0)), api.ErrLimit},
 	} {
 		s, e := cbor.Encode(c.l)
 		if e != c.e || e != api.OK && s != "" {

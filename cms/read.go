@@ -2,7 +2,6 @@ package cms
 
 import (
 	"errors"
-	"strings"
 
 	"pyxis/api"
 	"pyxis/der"
@@ -63,7 +62,7 @@ func (r *reader) sealed() {
 	}
 	r.leaf(4, func(tag string) {
 		r.ask(len(tag) == r.size, api.ErrForm)
-		r.envelope.Tag = strings.Clone(tag)
+		r.envelope.Tag = tag
 	})
 	r.ask(!r.stands(0xa2), api.ErrKind)
 }
@@ -94,7 +93,7 @@ func (r *reader) wrapped(to *api.Recipient) {
 	r.within(0x30, func() {
 		r.leaf(4, func(name string) {
 			r.ask(len(name) >= 1 && len(name) <= api.MaxName, api.ErrForm)
-			to.Name = strings.Clone(name)
+			to.Name = name
 		})
 		r.ask(!r.more(), api.ErrKind)
 	})
@@ -103,7 +102,7 @@ func (r *reader) wrapped(to *api.Recipient) {
 	})
 	r.leaf(4, func(key string) {
 		r.ask(len(key)%8 == 0 && len(key) >= 24 && len(key) <= api.MaxWrap+8, api.ErrForm)
-		to.Key = strings.Clone(key)
+		to.Key = key
 	})
 }
 
@@ -132,13 +131,13 @@ func (r *reader) password(to *api.Recipient) {
 			to.Size = r.keySize(chains)
 			r.leaf(4, func(iv string) {
 				r.ask(len(iv) == 16, api.ErrForm)
-				to.IV = strings.Clone(iv)
+				to.IV = iv
 			})
 		})
 	})
 	r.leaf(4, func(key string) {
 		r.ask(len(key)%16 == 0 && len(key) >= 32 && len(key) <= 272, api.ErrForm)
-		to.Key = strings.Clone(key)
+		to.Key = key
 	})
 }
 
@@ -146,7 +145,7 @@ func (r *reader) password(to *api.Recipient) {
 func (r *reader) derivation(to *api.Recipient) {
 	r.leaf(4, func(salt string) {
 		r.ask(len(salt) >= 8 && len(salt) <= 1000, api.ErrForm)
-		to.Salt = strings.Clone(salt)
+		to.Salt = salt
 	})
 	r.leaf(2, func(body string) {
 		to.Rounds = r.roundsOf(body)
@@ -182,7 +181,7 @@ func (r *reader) content() {
 		r.ask(r.err != nil || r.more(), api.ErrKind)
 		r.leaf(0x80, func(text string) {
 			r.ask(len(text) <= api.MaxText && !(mode == ccm && len(r.envelope.IV) == 13 && len(text) >= 65536), api.ErrLimit)
-			r.envelope.Cipher = strings.Clone(text)
+			r.envelope.Cipher = text
 		})
 	})
 }
@@ -211,7 +210,7 @@ func (r *reader) parameters(mode byte) {
 			least, most = 7, 13
 		}
 		r.ask(len(iv) >= least && len(iv) <= most, api.ErrForm)
-		r.envelope.IV = strings.Clone(iv)
+		r.envelope.IV = iv
 	})
 	r.size = defaultTag
 	if r.stands(2) {

@@ -61,7 +61,7 @@ func TestDecode(t *testing.T) {
 		{"30 06 30 02 05 00 05 00", nodes(within(0x30, 2), within(0x30, 1), leaf(5, ""), leaf(5, ""))},
 		{"01 01 00", nodes(leaf(1, "\x00"))}, {"01 01 ff", nodes(leaf(1, "\xff"))}, {"02 01 00", nodes(leaf(2, "\x00"))}, {"02 01 ff", nodes(leaf(2, "\xff"))}, {"02 02 00 80", nodes(leaf(2, "\x00\x80"))}, {"02 02 ff 7f", nodes(leaf(2, "\xff\x7f"))},
 		{"03 01 00", nodes(leaf(3, "\x00"))}, {"03 02 07 80", nodes(leaf(3, "\x07\x80"))}, {"03 02 00 ff", nodes(leaf(3, "\x00\xff"))}, {"03 03 01 ff fe", nodes(leaf(3, "\x01\xff\xfe"))},
-		{"06 01 2a", nodes(leaf(6, "*"))}, {"06 03 2a 81 00", nodes(leaf(6, "*\x81\x00"))}, {"0c 00", nodes(leaf(12, ""))}, {"0c 02 c3 a9", nodes(leaf(12, "é"))},
+		{"06 01 2a", nodes(leaf(6, "*"))}, {"06 03 2a 81 00", nodes(leaf(6, "*\x81\x00"))}, {"06 05 2a 81 80 80 01", nodes(leaf(6, "*\x81\x80\x80\x01"))}, {"0c 00", nodes(leaf(12, ""))}, {"0c 02 c3 a9", nodes(leaf(12, "é"))},
 		{"80 00", nodes(leaf(0x80, ""))}, {"9e 01 00", nodes(leaf(0x9e, "\x00"))}, {"a0 02 05 00", nodes(within(0xa0, 1), leaf(5, ""))}, {"be 00", nodes(within(0xbe, 0))}, {"81 02 00 01", nodes(leaf(0x81, "\x00\x01"))},
 		{"31 04 05 00 05 00", nodes(within(0x31, 2), leaf(5, ""), leaf(5, ""))}, {"31 05 04 00 04 01 00", nodes(within(0x31, 2), leaf(4, ""), leaf(4, "\x00"))}, {"30 05 04 01 00 04 00", nodes(within(0x30, 2), leaf(4, "\x00"), leaf(4, ""))},
 		{"04 81 80 " + strings.Repeat("61", 128), nodes(leaf(4, strings.Repeat("a", 128)))}, {"04 7f " + strings.Repeat("61", 127), nodes(leaf(4, strings.Repeat("a", 127)))}, {"04 82 01 00 " + strings.Repeat("61", 256), nodes(leaf(4, strings.Repeat("a", 256)))},
@@ -96,7 +96,7 @@ func TestFaults(t *testing.T) {
 		// bodies
 		{"01 00", most, api.ErrForm, 0}, {"01 01 01", most, api.ErrForm, 0}, {"01 02 00 00", most, api.ErrForm, 0}, {"02 00", most, api.ErrForm, 0}, {"02 02 00 7f", most, api.ErrForm, 0}, {"02 02 ff 80", most, api.ErrForm, 0}, {"02 03 00 00 80", most, api.ErrForm, 0},
 		{"03 00", most, api.ErrForm, 0}, {"03 01 01", most, api.ErrForm, 0}, {"03 02 08 00", most, api.ErrForm, 0}, {"03 02 01 01", most, api.ErrForm, 0}, {"03 02 07 40", most, api.ErrForm, 0}, {"05 01 00", most, api.ErrForm, 0},
-		{"06 00", most, api.ErrForm, 0}, {"06 01 80", most, api.ErrForm, 0}, {"06 02 80 01", most, api.ErrForm, 0}, {"06 02 2a 81", most, api.ErrForm, 0}, {"06 03 2a 80 01", most, api.ErrForm, 0}, {"0c 01 80", most, api.ErrForm, 0}, {"0c 03 ed a0 80", most, api.ErrForm, 0}, {"0c 02 c0 80", most, api.ErrForm, 0}, {"0c 04 f4 90 80 80", most, api.ErrForm, 0},
+		{"06 00", most, api.ErrForm, 0}, {"06 01 80", most, api.ErrForm, 0}, {"06 02 80 01", most, api.ErrForm, 0}, {"06 02 2a 81", most, api.ErrForm, 0}, {"06 03 2a 80 01", most, api.ErrForm, 0}, {"06 03 2a 81 80", most, api.ErrForm, 0}, {"0c 01 80", most, api.ErrForm, 0}, {"0c 03 ed a0 80", most, api.ErrForm, 0}, {"0c 02 c0 80", most, api.ErrForm, 0}, {"0c 04 f4 90 80 80", most, api.ErrForm, 0},
 		{"30 04 05 00 01 00", most, api.ErrForm, 4}, {"01 02 00", most, api.ErrForm, 3},
 		// order
 		{"31 05 04 01 00 04 00", most, api.ErrForm, 5}, {"31 05 04 00 02 01 00", most, api.ErrForm, 4}, {"31 06 30 02 05 00 05 00", most, api.ErrForm, 6}, {"31 06 05 00 30 00 30 02", most, api.ErrForm, 6}, {"31 08 30 02 05 00 30 02 04 00", most, api.ErrForm, 6},
@@ -141,7 +141,7 @@ func TestEncodeFaults(t *testing.T) {
 		{nodes(within(5, 0)), api.ErrForm}, {nodes(leaf(0x30, "")), api.ErrForm}, {nodes(api.Node{Tag: 0x30, Kids: 0, Body: "x"}), api.ErrForm}, {nodes(api.Node{Tag: 5, Kids: -2}), api.ErrForm}, {nodes(api.Node{Tag: 4, Kids: 0, Body: "x"}), api.ErrForm}, {nodes(api.Node{Tag: 0x30, Kids: -2}), api.ErrForm}, {nodes(leaf(0xa0, "")), api.ErrForm}, {nodes(within(0x80, 0)), api.ErrForm},
 		{nodes(leaf(1, "")), api.ErrForm}, {nodes(leaf(2, "\x00\x01")), api.ErrForm}, {nodes(leaf(5, "x")), api.ErrForm}, {nodes(leaf(6, "")), api.ErrForm}, {nodes(leaf(12, "\xff")), api.ErrForm}, {nodes(leaf(3, "\x01")), api.ErrForm},
 		{nodes(within(0x31, 2), leaf(4, "b"), leaf(4, "a")), api.ErrForm}, {nodes(within(0x31, 3), leaf(4, "a"), leaf(4, "b"), leaf(4, "a")), api.ErrForm}, {nodes(within(0x31, 2), leaf(4, "a"), leaf(4, "a")), api.OK}, {nodes(within(0x30, 1), within(0x31, 2), within(0x30, 1), leaf(5, ""), within(0x30, 0)), api.ErrForm}, {nodes(within(0xb1, 2), leaf(4, "b"), leaf(4, "a")), api.OK},
-		{deep(32), api.OK}, {deep(33), api.ErrLimit}, {append(deep(4000), leaf(5, "")), api.ErrForm}, {deep(4095), api.ErrLimit}, {append(deep(4095), leaf(0, "")), api.ErrLimit},
+		{deep(32), api.OK}, {deep(33), api.ErrLimit}, {append(deep(31)[:31], within(0x30, 0)), api.OK}, {append(deep(32)[:32], within(0x30, 0)), api.ErrLimit}, {append(deep(4000), leaf(5, "")), api.ErrForm}, {deep(4095), api.ErrLimit}, {append(deep(4095), leaf(0, "")), api.ErrLimit},
 		{wide(4095), api.OK}, {wide(4096), api.ErrLimit}, {append(wide(4096), leaf(0, "")), api.ErrLimit},
 		{nodes(leaf(4, long(262144-5))), api.OK}, {nodes(leaf(4, long(262144-4))), api.ErrLimit}, {nodes(leaf(4, long(1<<20))), api.ErrLimit},
 		{nodes(within(0x31, 2), leaf(4, long(150000)), leaf(4, long(150000))), api.ErrLimit}, {nodes(within(0x31, 2), leaf(4, "b"+long(150000)), leaf(4, "a"+long(150000))), api.ErrLimit}, {nodes(within(0x31, 2), leaf(4, "b"), leaf(4, long(1<<20)), leaf(5, "")), api.ErrForm},

@@ -258,6 +258,34 @@ func others(t *testing.T, p api.Plan, s string, keys *ring.Ring, aad, text strin
 	}
 }
 
+// The format is told by the first byte alone.
+func TestFirstByte(t *testing.T) {
+	lim := api.Limits{Depth: 9, Items: 9, Bytes: 2, Rounds: 1}
+	for s, want := range map[string]api.Errno{"\x80\x80\x80": api.ErrForm, "\x7f\x80\x80": api.ErrLimit, "\xe0..": api.ErrKind, "\x30\x1f\x1f": api.ErrLimit, "\x30\x80\x80": api.ErrForm, "\x2f\x80\x80": api.ErrLimit, "\x31\x80\x80": api.ErrLimit, "x": api.ErrForm} {
+		if got, e := envelope.Inspect(s, lim); e != want || !same(got, api.Envelope{}) {
+			t.Errorf("%x: %v, %v", s, got, e)
+		}
+	}
+}
+
+// Eight recipients are as many as may be.
+func TestEight(t *testing.T) {
+	keys := keyring(t)
+	for _, format := range []int{1, 4} {
+		p := api.Plan{Format: format, Alg: 1, Key: secret(16), IV: long(12)}
+		for range 8 {
+			p.To = append(p.To, api.Recipient{Way: 2, Size: 16, Name: "k16"})
+		}
+		s, e := envelope.Seal(p, keys, "", "text", most)
+		if e != api.OK {
+			t.Fatal(format, e)
+		}
+		if got, e := envelope.Open(s, keys, "", most); got != "text" || e != api.OK {
+			t.Error(format, got, e)
+		}
+	}
+}
+
 // W6: each recipient's key alone opens it; other keys and their order change nothing.
 func TestKeys(t *testing.T) {
 	for _, format := range []int{api.CMS, api.General} {
@@ -520,13 +548,19 @@ func TestTextErrors(t *testing.T) {
 			}
 			return x
 		}
+		x := base()
+		x.lim.Rounds = x.p.To[0].Rounds // as many as may be
+		if _, e := envelope.Seal(x.p, x.r, x.aad, "", x.lim); e != api.OK {
+			t.Error(format, e)
+		}
 		first(t, base, []breaks{
 			{"recipients: two", api.ErrArg, func(x *asked) { x.p.To = []api.Recipient{x.p.To[0], x.p.To[0]} }}, {"recipients: none", api.ErrArg, func(x *asked) { x.p.To = nil }}, {"recipients: no way", api.ErrArg, func(x *asked) { x.p.To[0].Way = 5 }},
 			{"ring", api.ErrNone, func(x *asked) { x.p.To[0].Name = "q" }},
 			{"key", api.ErrKey, func(x *asked) { x.p.Key += "k" }},
+			{"names", api.ErrArg, func(x *asked) { x.p.To[0].Name = "\xff" }},
 			{"bytes", api.ErrLimit, func(x *asked) { x.lim.Bytes = 50 }},
 		})
-		x := base()
+		x = base()
 		x.aad = "a"
 		if _, e := envelope.Seal(x.p, x.r, x.aad, "", most); (e == api.ErrArg) != (format == 2) {
 			t.Error(format, e)
@@ -568,7 +602,7 @@ func TestItemErrors(t *testing.T) {
 	}
 	l := []breaks{
 		{"limits", api.ErrArg, func(x *asked) { x.lim.Items = 0 }},
-		{"kind of cipher 4", api.ErrKind, func(x *asked) { x.p.Alg = 4 }}, {"kind of cipher 105", api.ErrKind, func(x *asked) { x.p.Alg = 105 }}, {"kind of cipher 201", api.ErrKind, func(x *asked) { x.p.Alg = 201 }}, {"kind of a tag alone", api.ErrKind, func(x *asked) { x.p.Format = 6 }},
+		{"kind of cipher 4", api.ErrKind, func(x *asked) { x.p.Alg = 4 }}, {"kind of cipher 5", api.ErrKind, func(x *asked) { x.p.Alg = 5 }}, {"kind of cipher 6", api.ErrKind, func(x *asked) { x.p.Alg = 6 }}, {"kind of cipher 105", api.ErrKind, func(x *asked) { x.p.Alg = 105 }}, {"kind of cipher 201", api.ErrKind, func(x *asked) { x.p.Alg = 201 }}, {"kind of a tag alone", api.ErrKind, func(x *asked) { x.p.Format = 6 }},
 		{"long text", api.ErrLimit, func(x *asked) { x.text = long(70001) }}, {"long aad", api.ErrLimit, func(x *asked) { x.aad = long(70001) }}, {"long text for 13", api.ErrLimit, func(x *asked) { x.text = long(65536) }}, {"long text for 13 with another iv", api.ErrLimit, func(x *asked) { x.text, x.p.IV = long(65536), "" }},
 		{"recipients: none", api.ErrArg, func(x *asked) { x.p.To = nil }}, {"recipients: two", api.ErrArg, func(x *asked) { x.p.To = []api.Recipient{{Way: 1, Name: "a"}, {Way: 1, Name: "a"}} }}, {"recipients: wrapped", api.ErrArg, func(x *asked) { x.p.To[0].Way = 2 }}, {"recipients: a password", api.ErrArg, func(x *asked) { x.p.To[0].Way = 3 }},
 		{"ring", api.ErrNone, func(x *asked) { x.r = rings(t, "a", secret(24)) }}, {"ring: another name", api.ErrNone, func(x *asked) { x.p.To[0].Name = "b" }},
@@ -870,13 +904,25 @@ func TestOpenFaults(t *testing.T) {
 			}
 		}
 	}
+	// A key of another length than the cipher's, with which all is sealed.
+	e := api.Envelope{Format: 1, Alg: 1, IV: long(12), To: []api.Recipient{{Way: 2, Size: 16, Name: "k16"}}}
+	e.To[0].Key, _ = wrap.Wrap(secret(16), secret(24))
+	out, _ := gcm.Seal(secret(24), e.IV, "", "text", 16)
+	e.Cipher, e.Tag = out[:4], out[4:]
+	s, no := cms.Tell(e)
+	if no != api.OK {
+		t.Fatal(no)
+	}
+	if got, e := envelope.Open(s, keys, "", most); got != "" || e != api.ErrAuth {
+		t.Error(got, e)
+	}
 	// A header of a tree that isn't that of what is beside it.
-	e, _ := envelope.Inspect(messages(t)[0], most)
+	e, _ = envelope.Inspect(messages(t)[0], most)
 	inner := wrapKey(t, e)
 	e.Header = cms.Attributes("other")
-	out, _ := gcm.Seal(inner, e.IV, e.Header, "a text", len(e.Tag))
+	out, _ = gcm.Seal(inner, e.IV, e.Header, "a text", len(e.Tag))
 	e.Cipher, e.Tag = out[:6], out[6:]
-	s, no := cms.Tell(e)
+	s, no = cms.Tell(e)
 	if no != api.OK {
 		t.Fatal(no)
 	}

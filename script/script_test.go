@@ -67,6 +67,7 @@ func TestWords(t *testing.T) {
 	if got := s.Do("names"); got != "-" {
 		t.Error(got)
 	}
+	does(t, s, lines("limits 1 1 1 123456789 / limits 0 0 0 0 / plan 999999999 0 0"), lines("error 2 / error 2 / ok"))
 	does(t, s, lines("key - 61 / drop - / uses - / key a - / key - - / uses nobody / key \xff 00 / names / key -- 61 / key . 62 / names / uses . / drop -- / names"),
 		lines("error 2 / error 12 / 0 / error 2 / error 2 / 0 / ok / ff / ok / ok / 2d2d 2e ff / 0 / ok / 2e ff"))
 }
